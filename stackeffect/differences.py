@@ -1,8 +1,6 @@
 """Differences: the first stack on which two effects have different results."""
 
-from stackeffect.words import check_limit
-
-FIRST_ITEM = "a"
+from stackeffect.words import FIRST_ITEM, check_limit
 
 
 def by_height(stack):

@@ -1,7 +1,8 @@
 """Effects: what a sequence does to every stack."""
 
 from stackeffect.errors import InvalidNumber
-from stackeffect.words import check_limit, check_steps, check_word, is_too_high, is_whole
+from stackeffect.integers import is_whole
+from stackeffect.words import check_limit, check_steps, check_word, is_too_high
 
 
 def least_peak(pops, pushes):

@@ -1,8 +1,10 @@
 """Items, words, steps and sequences, and what a sequence does to one given stack."""
 
 from stackeffect.errors import InvalidNumber, InvalidSteps, InvalidWord
+from stackeffect.integers import is_between
 
 LETTERS = "abcdefghijklmnopqrstuvwxyz"
+FIRST_ITEM = "a"
 MOST_LETTERS = 8
 MOST_STEPS = 1000
 MOST_LIMIT = 1000
@@ -40,14 +42,9 @@ def is_sequence(value):
     return may_hold_steps(value) and all([is_step(step) for step in value])
 
 
-def is_whole(value):
-    """Return whether any value is an integer, which True and False are not."""
-    return isinstance(value, int) and not isinstance(value, bool)
-
-
 def is_limit(value):
     """Return whether any value is a limit."""
-    return value is None or (is_whole(value) and 0 <= value <= MOST_LIMIT)
+    return value is None or is_between(value, 0, MOST_LIMIT)
 
 
 def check_steps(steps):

@@ -66,6 +66,11 @@ def small_effects(items, most, more_peaks):
     return effects
 
 
+def parts(effect):
+    """The pops, the pushes and the peak of an effect."""
+    return effect.pops, effect.pushes, effect.peak
+
+
 def raised(action):
     """The error that an action raises: its class and its attributes."""
     try:

@@ -1,6 +1,7 @@
 """The form of the package: rules of LANGUAGE.md that can be read off the files."""
 
 import ast
+import builtins
 import re
 import unittest
 from pathlib import Path
@@ -36,7 +37,6 @@ class TestLanguage(unittest.TestCase):
                 self.assertLessEqual(len(text.splitlines()), 400)
                 self.assertLessEqual(max(map(len, text.splitlines())), 120)
                 self.assertRegex(text, r'\A[ -~\n]*\Z')
-                self.assertNotIn('%', text)
                 self.assertIsNone(BARRED_WORDS.search(text))
 
     def test_functions_are_short(self):
@@ -55,6 +55,49 @@ class TestLanguage(unittest.TestCase):
             self.assertTrue(node.name in SPECIAL_METHODS or not node.name.startswith('_'), (name, node.name))
         for name, node in nodes(ast.Name):
             self.assertFalse(node.id.startswith('_'), (name, node.id))
+
+    def test_strings_and_powers(self):
+        for name, node in nodes(ast.Constant):
+            self.assertFalse(isinstance(node.value, str) and '%' in node.value, (name, node.lineno))
+        for name, node in nodes(ast.BinOp):
+            if isinstance(node.op, ast.Pow):
+                self.assertIsInstance(node.right, ast.Constant, (name, node.lineno))
+
+    def test_no_generator_expressions_beside_a_class_with_its_own_equality(self):
+        self.assertEqual([(name, node.lineno) for name, node in nodes(ast.GeneratorExp)], [])
+
+    def test_local_names(self):
+        for path, text in sources():
+            tree = ast.parse(text)
+            classes = [node.name for node in tree.body if isinstance(node, ast.ClassDef)]
+            imports = [alias.name for node in tree.body if isinstance(node, ast.ImportFrom) for alias in node.names]
+            taken = {*classes, *imports, *dir(builtins)}
+            names = {node.arg for node in ast.walk(tree) if isinstance(node, ast.arg)}
+            names |= {node.id for node in ast.walk(tree) if isinstance(node, ast.Name)
+                      and isinstance(node.ctx, ast.Store)}
+            with self.subTest(path.name):
+                self.assertEqual(names & taken, set())
+
+    def test_each_name_is_bound_once_in_a_module(self):
+        for path, text in sources():
+            names = []
+            for node in ast.parse(text).body:
+                if isinstance(node, ast.ImportFrom):
+                    names += [alias.name for alias in node.names]
+                elif isinstance(node, ast.Assign):
+                    names += [target.id for target in node.targets]
+                elif isinstance(node, (ast.FunctionDef, ast.ClassDef)):
+                    names.append(node.name)
+                else:
+                    self.assertIsInstance(node, ast.Expr)
+            with self.subTest(path.name):
+                self.assertEqual(sorted(names), sorted(set(names)))
+
+    def test_no_name_is_both_a_method_and_an_attribute(self):
+        methods = {part.name for name, node in nodes(ast.ClassDef) for part in node.body
+                   if isinstance(part, ast.FunctionDef)}
+        attributes = {node.attr for name, node in nodes(ast.Attribute) if isinstance(node.ctx, ast.Store)}
+        self.assertEqual(methods & attributes, set())
 
     def test_statements(self):
         self.assertEqual([(name, node.lineno) for name, node in nodes(BARRED_NODES)], [])
