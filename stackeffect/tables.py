@@ -93,6 +93,13 @@ class Reader:
             found |= self.targets.get(state, {}).get(item, 0)
         return self.with_skips(found)
 
+    def after_word(self, word):
+        """Return the set of states to which a word can lead from the beginning."""
+        states = self.beginning
+        for item in word:
+            states = self.after(states, item)
+        return states
+
     def choices(self, states):
         """Return the list of the items that can be read in a set, descending, each with the set after it."""
         if states not in self.known:
@@ -136,10 +143,7 @@ def accepts(table, stack):
     check_table(table)
     check_word(stack)
     reader = Reader(table)
-    states = reader.beginning
-    for item in stack:
-        states = reader.after(states, item)
-    return (states & reader.accepting) != 0
+    return (reader.after_word(stack) & reader.accepting) != 0
 
 
 def stacks_of_height(reader, ahead):

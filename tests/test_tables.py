@@ -8,7 +8,7 @@ from unittest.mock import patch
 
 from stackeffect.errors import InvalidNumber, InvalidTable, InvalidWord, LimitExceeded
 from stackeffect.tables import accepts, first_stack, how_many, is_finite, is_table, stacks
-from tests.helpers import Odd, other_values, raised, words
+from tests.helpers import NOT_TABLES, NOT_WORDS, Odd, drawn_tables, is_read, raised, states_after, words
 
 EXAMPLE = ([(0, 'a', 0), (0, 'b', 1)], [], [1])
 BAD_STATES = [-1, 1000, 10 ** 39, True, False, None, '0', 0.0, 1.5, [], (0,), {}, b'', Odd(), object()]
@@ -16,46 +16,9 @@ BAD_ITEMS = ['', 'A', 'abcdefghi', 'a1', None, 0, True, ('a',), ['a'], b'a', Odd
 BAD_EDGES = [None, (), (0, 'a'), (0, 'a', 0, 0), [0, 'a', 0], 'aaa', {0: 'a', 1: 'b', 2: 'c'}, 5, True, Odd(),
              ('a', 0, 0), (0, 0, 'a'), ('a', 'a', 'a'), (0, 0, 0)]
 BAD_LISTS = [(), (0,), None, {}, {0}, {0: 0}, 'a', '', 0, True, range(1), iter([]), Odd()]
-NOT_TABLES = other_values() + [
-    (), [], '', 'abc', ([], []), ([], [], [], []), [[], [], []], ((), [], []), ([], (), []), ([], [], ()),
-    ([(0, 'a', 0)] * 5001, [], []), {'edges': [], 'skips': [], 'ends': []}, ([], [], None), (None, [], []),
-    ([[]], [], []), ([()], [], []), ([], [[]], []), ([], [], [()])]
-NOT_WORDS = [None, True, 5, 'a', '', ['a'], [], {}, ('A',), ('a', ''), ('a', 1), Odd(), (Odd(),), (('a',),)]
 BAD_HEIGHTS = [-1, 201, 10 ** 39, True, False, None, '1', 1.0, [], (), {}, Odd()]
 FUNCTIONS = [lambda table: accepts(table, ()), lambda table: list(stacks(table)), first_stack, is_finite,
              lambda table: how_many(table, 0)]
-
-
-def states_after(table, stack):
-    """The states in which reading the stack can end, found step by step from (state, number of items read)."""
-    edges, skips, ends = table
-    found, pending = set(), [(0, 0)]
-    while pending:
-        place = pending.pop()
-        if place in found:
-            continue
-        found.add(place)
-        state, at = place
-        if state == 0:
-            pending += [(skip, at) for skip in skips]
-        if at < len(stack):
-            pending += [(target, at + 1) for source, item, target in edges if (source, item) == (state, stack[at])]
-    return frozenset(state for state, at in found if at == len(stack))
-
-
-def is_read(table, stack):
-    return not states_after(table, stack).isdisjoint(table[2])
-
-
-def drawn_tables(random, many):
-    """Small tables: up to three states, two items, with skips, edges into state 0 and doubled parts."""
-    for case in range(many):
-        states = random.randrange(1, 4)
-        edges = [(random.randrange(states), random.choice('ab'), random.randrange(states))
-                 for edge in range(random.randrange(7))]
-        skips = [random.randrange(states) for skip in range(random.choice((0, 0, 1, 2)))]
-        ends = [random.randrange(states) for end in range(random.choice((0, 1, 1, 2)))]
-        yield edges, skips, ends
 
 
 def all_tables_of_two_states():
