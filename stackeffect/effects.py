@@ -94,8 +94,7 @@ class Effect:
         check_limit(limit)
         if self.is_never or is_too_high(len(stack) + self.peak, limit):
             return None
-        depth = len(self.pops)
-        return self.pushes + stack[depth:] if stack[:depth] == self.pops else None
+        return replaced(self, stack)
 
     def __eq__(self, other):
         return (isinstance(other, Effect) and self.needs == other.needs
@@ -105,6 +104,14 @@ class Effect:
         if self.needs is None:
             return "Effect.never()"
         return f"Effect({self.needs!r}, {self.leaves!r}, peak={self.highest!r})"
+
+
+def replaced(effect, stack):
+    """Return what an effect makes of a stack without a limit, or None if it fails."""
+    if effect.is_never:
+        return None
+    depth = len(effect.pops)
+    return effect.pushes + stack[depth:] if stack[:depth] == effect.pops else None
 
 
 def joined(parts):

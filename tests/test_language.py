@@ -93,9 +93,13 @@ class TestLanguage(unittest.TestCase):
             with self.subTest(path.name):
                 self.assertEqual(sorted(names), sorted(set(names)))
 
+    def is_property(self, function):
+        signs = [ast.unparse(decorator) for decorator in function.decorator_list]
+        return any(sign == 'property' or sign.endswith('.setter') for sign in signs)
+
     def test_no_name_is_both_a_method_and_an_attribute(self):
         methods = {part.name for name, node in nodes(ast.ClassDef) for part in node.body
-                   if isinstance(part, ast.FunctionDef)}
+                   if isinstance(part, ast.FunctionDef) and not self.is_property(part)}
         attributes = {node.attr for name, node in nodes(ast.Attribute) if isinstance(node.ctx, ast.Store)}
         self.assertEqual(methods & attributes, set())
 
